@@ -123,9 +123,10 @@ const (
 	done   = int(api.Done)
 	barred = int(api.Barred)
 	broke  = int(api.Broke)
+	lost   = int(api.Lost)
 )
 
-// model: what a host has to be like, as long as nobody gets what another sends.
+// model: what a host has to be like.
 type model struct {
 	route  uint8
 	n      int
@@ -185,19 +186,42 @@ func (a *model) frame(draws [][]uint16) api.Errno {
 			g.box = []api.Event{{What: api.Start, Arg: uint16(a.route)}}
 		}
 	}
+	sends := make([][]api.Sent, len(a.guests))
 	for t, g := range a.guests {
 		if g.phase == api.In {
 			var own []uint16
 			if t < len(draws) {
 				own = draws[t]
 			}
-			g.handle(a.n, a.route, own)
+			sends[t] = g.handle(a.n, a.route, own)
+		}
+	}
+	for from := range a.guests {
+		for _, s := range sends[from] {
+			for to := range a.guests {
+				if a.guests[from].Pub&(1<<s.Topic) != 0 && to != from {
+					a.guests[to].hear(a.n, from, s)
+				}
+			}
 		}
 	}
 	return api.OK
 }
 
-func (g *guest) handle(n int, route uint8, draws []uint16) {
+func (g *guest) hear(n, from int, s api.Sent) {
+	if g.phase != api.In || g.Sub&(1<<s.Topic) == 0 {
+		return
+	}
+	message := api.Event{What: api.Message, By: uint8(from + 1), Arg: s.Value, From: s.Topic}
+	others := slices.DeleteFunc(slices.Clone(g.box), func(e api.Event) bool { return e.What == message.What && e.By == message.By })
+	if len(g.box)-len(others) < g.Share {
+		g.box = append(g.box, message)
+	} else {
+		g.log = append(g.log, api.Entry{Frame: n, Kind: api.Lost, A: uint16(s.Topic), B: s.Value})
+	}
+}
+
+func (g *guest) handle(n int, route uint8, draws []uint16) []api.Sent {
 	event := api.Event{What: api.Tick, Arg: uint16(n)}
 	if len(g.box) > 0 {
 		event = g.box[0]
@@ -211,7 +235,7 @@ func (g *guest) handle(n int, route uint8, draws []uint16) {
 		g.nodes, _ = tree.Plan(g.nodes, []api.Shown{{Key: 65535, Text: "!"}})
 		g.box = nil
 		g.log = append(g.log, api.Entry{Frame: n, Kind: api.Broke, A: uint16(out.Fault), B: uint16(out.Steps)})
-		return
+		return nil
 	}
 	g.cells = out.Cells
 	g.nodes, _ = tree.Plan(g.nodes, out.Shows)
@@ -221,6 +245,7 @@ func (g *guest) handle(n int, route uint8, draws []uint16) {
 			g.log = append(g.log, api.Entry{Frame: n, Kind: api.Barred, A: uint16(s.Topic), B: s.Value})
 		}
 	}
+	return out.Sends
 }
 
 // everyone: as of a host.

@@ -57,28 +57,43 @@ func somePart(r *rand.Rand) []api.Ins {
 	}[r.Intn(3)]
 }
 
+// steadySends: a part of a program that sends, and never breaks.
+func steadySends(r *rand.Rand) []api.Ins {
+	l := list(ins(api.Load, 0), ins(api.Push, 1), ins(api.Add), ins(api.Store, 0))
+	for range 1 + r.Intn(4) {
+		l = append(l, []api.Ins{ins(api.What), ins(api.Arg), ins(api.From), ins(api.Draw), ins(api.Load, 0)}[r.Intn(5)], ins(api.Send, r.Intn(4)))
+	}
+	if r.Intn(2) == 0 {
+		l = slices.Concat(list(ins(api.Draw), ins(api.If, len(l))), l)
+	}
+	return l
+}
+
 func someProgram(t *testing.T, r *rand.Rand) string {
 	var l []api.Ins
+	if r.Intn(2) == 0 {
+		l = steadySends(r)
+		return code(t, l, [][]api.Ins{nil, list(ins(api.Arg), ins(api.Show)), somePart(r)}[r.Intn(3)])
+	}
 	for range 1 + r.Intn(8) {
 		l = append(l, somePart(r)...)
 	}
 	return code(t, l)
 }
 
-// someTenants: tenants of which none gets what another sends.
+// someTopics: none of the topics, or some, or all.
+func someTopics(r *rand.Rand) uint8 {
+	return []uint8{0, 15, uint8(r.Intn(16)), uint8(r.Intn(16)), uint8(1 << r.Intn(4))}[r.Intn(5)]
+}
+
 func someTenants(t *testing.T, r *rand.Rand) []api.Tenant {
 	var m []api.Tenant
-	var pubs uint8
-	for range 1 + r.Intn(4) {
-		x := api.Tenant{Program: someProgram(t, r), Fuel: []int{4, 12, 40, 1000}[r.Intn(4)], Routes: uint8(r.Intn(16)), Pub: uint8(r.Intn(16)), Share: 1 + r.Intn(3), Back: 1 + r.Intn(8)}
-		if r.Intn(2) == 0 {
+	for range []int{1, 2, 3, 4, 4}[r.Intn(5)] {
+		x := api.Tenant{Program: someProgram(t, r), Fuel: []int{4, 15, 40, 40, 1000, 1000}[r.Intn(6)], Routes: uint8(r.Intn(16)), Pub: someTopics(r), Sub: someTopics(r), Share: 1 + r.Intn(3), Back: 1 + r.Intn(8)}
+		if r.Intn(3) > 0 {
 			x.Routes = 15
 		}
-		pubs |= x.Pub
 		m = append(m, x)
-	}
-	for i := range m {
-		m[i].Sub = uint8(r.Intn(16)) &^ pubs
 	}
 	return m
 }
@@ -126,7 +141,7 @@ func act(t *testing.T, r *rand.Rand, h *host.Host, a *model) {
 	}
 }
 
-// P1, P9, P10, P11, P13: many hosts, through many calls, are as the document says.
+// P1, P9 to P13: many hosts, through many calls, are as the document says.
 func TestManyHosts(t *testing.T) {
 	r := rand.New(rand.NewSource(1))
 	seen := map[string]int{}
@@ -139,17 +154,28 @@ func TestManyHosts(t *testing.T) {
 				t.Fatalf("the tenants %+v in frame %d: %v, want %v", m, a.n, got, want)
 			}
 		}
-		for _, s := range everyone(h) {
+		for who, s := range everyone(h) {
 			seen[fmt.Sprint("phase ", s.phase)]++
+			for _, x := range s.box {
+				seen[fmt.Sprint("event ", x.What)]++
+				seen[fmt.Sprint("of ", who-1, " by ", int(x.By)-1)]++
+			}
 			for _, x := range s.log {
 				seen[fmt.Sprint("entry ", x.Kind)]++
 				seen[fmt.Sprint("entry ", x.Kind, " with ", min(x.A, 9))]++
 			}
 		}
 	}
-	for _, what := range []string{"phase 0", "phase 1", "phase 2", "entry 0 with 0", "entry 0 with 1", "entry 0 with 3", "entry 1", "entry 2 with 1", "entry 2 with 2", "entry 2 with 3", "entry 2 with 6"} {
+	for _, what := range []string{"phase 0", "phase 1", "phase 2", "event 1", "event 2", "entry 0 with 0", "entry 0 with 1", "entry 0 with 2", "entry 0 with 3", "entry 1", "entry 2 with 1", "entry 2 with 2", "entry 2 with 3", "entry 2 with 6", "entry 3 with 0", "entry 3 with 1", "entry 3 with 2", "entry 3 with 3"} {
 		if seen[what] < 50 {
-			t.Errorf("the hosts of this test are too much alike: %s only %d times of %v", what, seen[what], seen)
+			t.Errorf("the hosts of this test are too much alike: %s only %d times", what, seen[what])
+		}
+	}
+	for to := range 4 {
+		for by := range 4 {
+			if n := seen[fmt.Sprint("of ", to, " by ", by)]; to != by && n < 5 {
+				t.Errorf("the hosts of this test are too much alike: messages to %d by %d only %d times", to, by, n)
+			}
 		}
 	}
 }

@@ -73,17 +73,17 @@ func (x *tenant) takeClick(key uint16) api.Errno {
 	return api.OK
 }
 
-// handle runs the program for one event, in the frame n.
-func (x *tenant) handle(n int, route uint8, draws []uint16) {
+// handle runs the program for one event, in the frame n; the answer is what goes out.
+func (x *tenant) handle(n int, route uint8, draws []uint16) []api.Sent {
 	event := x.nextEvent(n)
 	in := api.Input{Fuel: x.manifest.Fuel, Cells: x.cells, Event: event, Route: route, Draws: draws}
 	// There is no error: New took only a Program and a Fuel that can be run.
 	out, _ := vm.Run(x.manifest.Program, in)
-	if out.Fault == api.Fine {
-		x.finish(n, event, out)
-	} else {
+	if out.Fault != api.Fine {
 		x.hold(n, out)
+		return nil
 	}
+	return x.finish(n, event, out)
 }
 
 // nextEvent takes the first event out of the box; if there is none, it is a Tick.
@@ -96,16 +96,20 @@ func (x *tenant) nextEvent(n int) api.Event {
 	return first
 }
 
-// finish keeps what a run without a fault has come to.
-func (x *tenant) finish(n int, event api.Event, out api.Outcome) {
+// finish keeps what a run without a fault has come to; the answer is what goes out.
+func (x *tenant) finish(n int, event api.Event, out api.Outcome) []api.Sent {
 	x.cells = out.Cells
 	x.show(out.Shows)
 	x.note(n, api.Done, uint16(event.What), event.Arg)
+	var going []api.Sent
 	for _, s := range out.Sends {
-		if !hasBit(x.manifest.Pub, s.Topic) {
+		if hasBit(x.manifest.Pub, s.Topic) {
+			going = append(going, s)
+		} else {
 			x.note(n, api.Barred, uint16(s.Topic), s.Value)
 		}
 	}
+	return going
 }
 
 // hold shuts the tenant out for a while, behind a run with a fault.
